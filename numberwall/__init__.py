@@ -1,0 +1,1 @@
+"""Numberwall: counter programs, runs, and walls that read numbers."""
