@@ -1,4 +1,4 @@
-"""What values are: integers, rows, and reads."""
+"""What values are: integers, rows, reads, configurations and words."""
 
 
 def is_integer(value):
@@ -31,6 +31,21 @@ def are_reads(value, counters):
     if not is_row(value) or not all([is_below(item, counters) for item in value]):
         return False
     return all([one < other for one, other in zip(value, value[1:])])
+
+
+def is_placed(value, counters, locations):
+    """Whether a value is a configuration with so many counters and locations; lists are none."""
+    if not isinstance(value, tuple) or len(value) != 2:
+        return False
+    location, numbers = value
+    return (is_below(location, locations) and isinstance(numbers, tuple)
+            and are_naturals(numbers, counters))
+
+
+def is_word(value, counters):
+    """Whether a value is a row of columns of so many bits."""
+    return is_row(value) and all([is_natural(item) and item.bit_length() <= counters
+                                  for item in value])
 
 
 def tupled(value):

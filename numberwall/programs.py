@@ -1,7 +1,7 @@
 """Programs with counters, their configurations and runs."""
 
-from numberwall.checks import are_naturals, are_reads, is_below, is_integer, is_natural, is_row
-from numberwall.checks import tupled
+from numberwall.checks import are_naturals, are_reads, is_below, is_integer, is_natural, is_placed
+from numberwall.checks import is_row, tupled
 from numberwall.errors import BadConfiguration, BadNumber, BadProgram, BadReads, BadStep
 
 
@@ -37,11 +37,7 @@ def _is_step(value, counters, locations):
 
 def is_configuration(program, value):
     """Whether any value is a configuration of the program."""
-    if not isinstance(value, tuple) or len(value) != 2:
-        return False
-    location, numbers = value
-    return (is_below(location, program.locations) and isinstance(numbers, tuple)
-            and are_naturals(numbers, program.counters))
+    return is_placed(value, program.counters, program.locations)
 
 
 def need_configuration(program, value):

@@ -21,6 +21,15 @@ INTERFACE = {
     "programs.py": {"Program": ("__init__", "__eq__"), "is_configuration": None, "steps_at": None,
                     "next_one": None, "behind_run": None, "layers": None, "run_to": None,
                     "turned": None, "cut": None},
+    "lots.py": {"Lot": ("__init__", "__eq__"), "word_of": None, "row_of": None, "read": None,
+                "is_in": None, "all_of": None, "none_of": None, "meet": None, "join": None,
+                "left_out": None, "spread": None, "least": None, "is_equal": None,
+                "least_in": None, "all_in": None, "just_these": None, "some": None},
+    "formulas.py": {"is_formula": None, "worth": None, "holds": None, "lot_of": None,
+                    "least_case": None, "witness": None},
+    "walls.py": {"ahead": None, "behind": None, "first_wrong": None, "is_wall": None},
+    "trees.py": {"is_tree": None, "leaves_of": None, "depth_of": None, "leaf_for": None,
+                 "cases": None},
 }
 
 
@@ -43,7 +52,6 @@ class Language(unittest.TestCase):
             for line in text.split("\n"):
                 self.assertLessEqual(len(line), 120, (name, line))
                 self.assertTrue(all(" " <= sign <= "~" for sign in line), (name, line))
-                self.assertNotIn("%", line, name)
 
     def test_functions_are_short(self):
         for name, text in sources():
@@ -94,8 +102,12 @@ class Language(unittest.TestCase):
                 self.assertNotIsInstance(node, FORBIDDEN, name)
                 if isinstance(node, ast.Constant):
                     self.assertNotIsInstance(node.value, (float, complex), name)
+                    self.assertNotIn("%", str(node.value), name)
                 if isinstance(node, ast.Call):
                     self.no_generator_in(node, name)
+                    for one in node.args:
+                        if isinstance(one, ast.Starred):
+                            self.assertIsInstance(one.value, (ast.Name, ast.Attribute), name)
 
     def no_generator_in(self, call, name):
         """Classes here compare, so these take lists."""
