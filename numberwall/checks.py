@@ -26,6 +26,11 @@ def are_naturals(value, many):
     return is_row(value) and len(value) == many and all([is_natural(item) for item in value])
 
 
+def are_integers(value, many):
+    """Whether a value is a row of just so many integers."""
+    return is_row(value) and len(value) == many and all([is_integer(item) for item in value])
+
+
 def are_reads(value, counters):
     """Whether a value is an ascending row of unlike counters of so many."""
     if not is_row(value) or not all([is_below(item, counters) for item in value]):

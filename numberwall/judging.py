@@ -1,8 +1,18 @@
 """Whether tables are walls: looked at together with the target, and with what each step does."""
 
-from numberwall.lots import cut_column, row_of, word_of
-from numberwall.programs import next_one
+from numberwall.checks import are_reads
+from numberwall.errors import BadReads
+from numberwall.lots import cut_column, need_lot, row_of, word_of
+from numberwall.programs import need_configuration, next_one
 from numberwall.tables import end_of, hopeful, least_word
+
+
+def need_case(program, start, target, reads):
+    """Raise the first error of a start, of a target and of reads of a program."""
+    need_configuration(program, start)
+    need_lot(target, program.counters, program.locations)
+    if not are_reads(reads, program.counters):
+        raise BadReads(reads)
 
 
 class StepReader:

@@ -92,6 +92,16 @@ def behind_run(program, configuration, run):
     return here
 
 
+def end_of_run(program, configuration, value):
+    """The configuration to which any value leads from this one, None if it is no run."""
+    if not is_row(value):
+        return None
+    try:
+        return behind_run(program, configuration, value)
+    except BadStep:
+        return None
+
+
 def layers(program, start, most):
     """The layers 0 to most, but not beyond the first empty one."""
     need_configuration(program, start)

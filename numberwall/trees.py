@@ -1,20 +1,17 @@
 """Trees of cases: why no wall has at most so many states."""
 
-from numberwall.checks import are_reads, is_below, is_natural, is_placed
-from numberwall.errors import BadNumber, BadReads
-from numberwall.judging import Judge
+from numberwall.checks import is_below, is_natural, is_placed
+from numberwall.errors import BadNumber
+from numberwall.judging import Judge, need_case
 from numberwall.knowing import Known
-from numberwall.lots import is_in, need_lot
-from numberwall.programs import need_configuration, next_one
+from numberwall.lots import is_in
+from numberwall.programs import next_one
 from numberwall.searching import Search
 
 
 def _judge(program, start, target, reads, states):
     """The judge of all these; the errors of is_tree."""
-    need_configuration(program, start)
-    need_lot(target, program.counters, program.locations)
-    if not are_reads(reads, program.counters):
-        raise BadReads(reads)
+    need_case(program, start, target, reads)
     if not is_natural(states):
         raise BadNumber("states", states)
     return Judge(program, start, target, reads)

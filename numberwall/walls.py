@@ -1,10 +1,10 @@
 """Walls: lots that let the start by, whatever a step makes of them, and nothing of the target."""
 
-from numberwall.checks import are_reads, is_below
-from numberwall.errors import BadNumber, BadReads
-from numberwall.judging import Judge, StepReader
+from numberwall.checks import is_below
+from numberwall.errors import BadNumber
+from numberwall.judging import Judge, StepReader, need_case
 from numberwall.lots import lot_of_keys, need_lot
-from numberwall.programs import need_configuration, turned
+from numberwall.programs import turned
 from numberwall.tables import end_of
 
 
@@ -40,10 +40,7 @@ def behind(program, lot, k):
 
 def first_wrong(program, start, target, lot, reads):
     """None if a lot of the read counters is a wall, otherwise the first thing that is wrong."""
-    need_configuration(program, start)
-    need_lot(target, program.counters, program.locations)
-    if not are_reads(reads, program.counters):
-        raise BadReads(reads)
+    need_case(program, start, target, reads)
     need_lot(lot, len(reads), program.locations)
     return Judge(program, start, target, reads).first_wrong(lot)
 

@@ -30,6 +30,17 @@ INTERFACE = {
     "walls.py": {"ahead": None, "behind": None, "first_wrong": None, "is_wall": None},
     "trees.py": {"is_tree": None, "leaves_of": None, "depth_of": None, "leaf_for": None,
                  "cases": None},
+    "settling.py": {"Run": ("__init__", "__eq__"), "Wall": ("__init__", "__eq__"),
+                    "Neither": ("__init__", "__eq__"), "settle": None, "is_settled": None},
+    "weights.py": {"Flow": ("__init__", "__eq__"), "Sinking": ("__init__", "__eq__"),
+                   "Wholes": ("__init__", "__eq__"), "Steady": ("__init__", "__eq__"),
+                   "Ratios": ("__init__", "__eq__"), "Equal": ("__init__", "__eq__"),
+                   "weights_equal": None, "weights_below": None, "weights_like": None,
+                   "by_parts": None, "by_wholes": None, "by_ratios": None, "is_by_parts": None,
+                   "is_by_wholes": None, "is_by_ratios": None},
+    "graphs.py": {"Led": ("__init__", "__eq__"), "Barred": ("__init__", "__eq__"),
+                  "check_graph": None, "empty_ring": None, "graph_run": None,
+                  "is_graph_told": None},
 }
 
 
