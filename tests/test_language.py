@@ -41,6 +41,15 @@ INTERFACE = {
     "graphs.py": {"Led": ("__init__", "__eq__"), "Barred": ("__init__", "__eq__"),
                   "check_graph": None, "empty_ring": None, "graph_run": None,
                   "is_graph_told": None},
+    "joinfree.py": {"need_joinless": None, "is_fed": None, "fed_supports": None,
+                    "run_by_counts": None, "reached": None, "counts_to": None, "run_into": None},
+    "processes.py": {"Crowd": ("__init__", "__eq__"), "check_crowd": None, "program_of": None,
+                     "start_of": None, "counter_of": None, "row_of": None, "alone": None,
+                     "all_at": None, "stuck": None},
+    "promises.py": {"promise_of": None, "promise_text": None},
+    "workshops.py": {"Workshop": ("__init__", "text", "names", "promises", "get", "kept", "put",
+                                  "drop", "rename", "set_start", "keep", "release", "undo", "redo",
+                                  "attempt", "trial")},
 }
 
 
