@@ -14,7 +14,7 @@ class Search:
         # What was wrong of some table, with its readings: often it is so of others, too.
         self.wrongs = {}
 
-    def tree(self):
+    def whole_tree(self):
         """A tree of cases, None if a wall is found."""
         return self._item(Known((), {}), ("begins", self.judge.start[0]))
 

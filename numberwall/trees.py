@@ -139,5 +139,5 @@ def _is_by_zero(item):
 def cases(program, start, target, reads, states):
     """("wall", lot) with a wall of at most so many states, or ("tree", tree)."""
     search = Search(_judge(program, start, target, reads, states), states)
-    tree = search.tree()
+    tree = search.whole_tree()
     return ("wall", search.wall) if tree is None else ("tree", tree)
