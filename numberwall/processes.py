@@ -189,9 +189,7 @@ def row_of(crowd, step):
 
 def _place_number(crowd, value):
     """The number of the counter of a pair (kind, place), None for any value that is none."""
-    if not is_row(value) or len(value) != 2:
-        return None
-    return _number_of(crowd, ("place", *value))
+    return _number_of(crowd, ("place", *value)) if is_row(value) else None
 
 
 def _sum_of(numbers):

@@ -138,7 +138,9 @@ class Runs(Raising):
         self.assertFalse(Led((0,)) == Led((1,)))
         self.assertTrue(Barred((0,)) == Barred([0]))
         self.assertTrue(Barred((0,)) != Barred((1,)))
-        self.assertFalse(Led((0,)) == Barred((0,)))
+        for one in (Led((0,)), Barred((0,))):
+            for other in (Led((0,)), Barred((0,)), (0,), None):
+                self.assertIs(one == other, one.__class__ is other.__class__)
         self.assertFalse(issubclass(Led, Barred) or issubclass(Barred, Led))
 
     def test_examples(self):

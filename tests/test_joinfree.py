@@ -138,11 +138,21 @@ class Counts(Raising):
                                  (0, (0, 1), (1, 0), 0)))
         for often in range(6):
             self.assertIsNotNone(self.check(program, (0, (1, 0)), (1, often, often)))
-        # Two rounds that hang together by counter 1.
+        # Two rounds that hang together by the second counter, whatever their numbers are.
+        steps = (((1, 0, 0), (0, 0, 0)), ((1, 0, 0), (0, 1, 0)), ((0, 1, 0), (1, 0, 0)),
+                 ((0, 1, 0), (0, 0, 1)), ((0, 0, 1), (0, 1, 0)))
+        for order in itertools.permutations(range(3)):
+            program = Program(3, 1, [(0, [takes[i] for i in order], [gives[i] for i in order], 0)
+                                     for takes, gives in steps])
+            start = (0, tuple((1, 0, 0)[i] for i in order))
+            for counts in itertools.product(range(2), range(3), range(3), range(3), range(3)):
+                self.check(program, start, counts)
+
+        # Two rounds through the first counter, of which neither comes to the other one.
         program = Program(3, 1, ((0, (1, 0, 0), (0, 0, 0), 0), (0, (1, 0, 0), (0, 1, 0), 0),
-                                 (0, (0, 1, 0), (1, 0, 0), 0), (0, (0, 1, 0), (0, 0, 1), 0),
-                                 (0, (0, 0, 1), (0, 1, 0), 0)))
-        for counts in itertools.product(range(2), range(4), range(4), range(4), range(4)):
+                                 (0, (0, 1, 0), (1, 0, 0), 0), (0, (1, 0, 0), (0, 0, 1), 0),
+                                 (0, (0, 0, 1), (1, 0, 0), 0)))
+        for counts in itertools.product(range(2), range(3), range(3), range(3), range(3)):
             self.check(program, (0, (1, 0, 0)), counts)
 
     def test_drawn_ones(self):
@@ -243,6 +253,23 @@ class Reached(Raising):
             self.assertEqual(counts is not None, (0, x) in found)
         self.assertEqual(counts_to(SPRING, (0, (3, 4)), (0, (3, 4))), (0, 0, 0))
         self.assertEqual(counts_to(EMPTY, (0, ()), (0, ())), (0,))
+
+    def test_two_ways_to_feed_one_counter(self):
+        # Two steps give to the first counter, two take from it; each leaves something of its own.
+        program = Program(4, 1, ((0, (0,) * 4, (1, 0, 0, 1), 0), (0, (0,) * 4, (1, 1, 0, 0), 0),
+                                 (0, (1, 0, 0, 0), (0, 0, 0, 0), 0),
+                                 (0, (1, 0, 0, 0), (0, 0, 1, 0), 0)))
+        start = (0, (0,) * 4)
+        for counts in itertools.product(range(3), repeat=4):
+            a, c, b, d = counts
+            if a + c >= b + d:
+                goal = (0, (a + c - b - d, c, d, a))
+                self.assertEqual(counts_to(program, start, goal), counts)
+                self.assertEqual(behind_run(program, start, run_by_counts(program, start, counts)),
+                                 goal)
+            else:
+                self.assertIsNone(run_by_counts(program, start, counts))
+        self.assertIsNone(counts_to(program, start, (0, (0, 0, 1, 0))))
 
     def test_run_into(self):
         chance = random.Random(11)

@@ -106,6 +106,10 @@ class Crowds(Raising):
                               ((1, (1,), ()), (0, 0)), (None, (0, 0)), ((0, (), ()), (0, 0))):
             kinds = ((1, (1,), ((0, (("new", 1, 1),), 0),)), second)
             self.wrong_crowd(BadProgram, {"index": index}, Crowd(kinds, 0, ()))
+        # What is no kind at all has no place.
+        for second in (None, (), "1", ("1", (1,), ()), (True, (1,), ()), (-1, (), ()), (0, (), ())):
+            kinds = ((1, (1,), ((0, (("new", 1, 0),), 0),)), second)
+            self.wrong_crowd(BadProgram, {"index": (0, 0)}, Crowd(kinds, 0, ()))
 
 
 class Programs(Raising):

@@ -156,9 +156,12 @@ class Kinds(Raising):
         for kind in every:
             for other in every:
                 self.assertIs(issubclass(kind, other), kind is other)
-        self.assertFalse(Flow(()) == Ratios(()))
-        self.assertFalse(Sinking((1,), (0,)) == Equal((1,), (0,)))
-        self.assertFalse(Flow(()) == ((),))
+        told = [Flow(()), Wholes(()), Ratios(()), Sinking((1,), (0,)), Equal((1,), (0,)),
+                Steady((1,), (0,), 2)]
+        for one in told:
+            for other in [*told, None, ((),), vars(one)]:
+                self.assertIs(one == other, one is other)
+                self.assertIs(one != other, one is not other)
 
 
 class Makes(Raising):
